@@ -6,6 +6,7 @@ import (
 	"testing"
 
 	"offshoot/api"
+	"offshoot/direct"
 	"offshoot/machine"
 )
 
@@ -225,7 +226,7 @@ func alike(a, b api.Run) bool {
 	return a.Out == b.Out && a.Steps == b.Steps && slices.Equal(a.Events, b.Events)
 }
 
-// ran holds Run, and Check, against what they must tell, told twice. Nothing that was given is changed, not even behind its end, and who changes one answer changes neither the other one nor what was given.
+// ran holds Run, and Check, against what they must tell, told twice; and direct.Run, too, as both ways to run a program tell the same. Nothing that was given is changed, not even behind its end, and who changes one answer changes neither the other one nor what was given.
 func ran(t *testing.T, p api.Program, args []int, fuel int, want api.Run, wrong api.Errno) {
 	t.Helper()
 	given, by := api.Program{Params: p.Params, Vars: roomy(p.Vars, mark), Body: roomy(p.Body, api.Node{Tag: mark})}, roomy(args, mark)
@@ -239,6 +240,10 @@ func ran(t *testing.T, p api.Program, args []int, fuel int, want api.Run, wrong 
 			t.Fatalf("Run of %d, %v, %v with %v and %d: %v %d %v of %d, %v, not %v %d %v of %d, %v", p.Params, short(p.Vars), short(p.Body), short(args), fuel,
 				r.Out, r.Steps, short(r.Events), len(r.Events), e, want.Out, want.Steps, short(want.Events), len(want.Events), wrong)
 		}
+	}
+	if r, e := direct.Run(given, by, fuel); !alike(r, want) || e != wrong {
+		t.Fatalf("the other way, direct, tells of %d, %v, %v with %v and %d: %v %d %v of %d, %v", p.Params, short(p.Vars), short(p.Body), short(args), fuel,
+			r.Out, r.Steps, short(r.Events), len(r.Events), e)
 	}
 	l := first.Events[:cap(first.Events)]
 	for i := range l {
