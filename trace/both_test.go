@@ -150,7 +150,9 @@ func TestSamples(t *testing.T) {
 				}
 				apart(t, run, mutant)
 				ends[mutant.Out.Kind]++
-				agree(t, q, args, mutant.Steps/2)
+				for _, fuel := range fuels(mutant.Steps) {
+					agree(t, q, args, fuel)
+				}
 			}
 		}
 	}
